@@ -1,0 +1,1 @@
+"""Replaytravel: runs of many threads, replayed and travelled."""
