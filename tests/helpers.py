@@ -1,6 +1,8 @@
 """What several test files share."""
 
 from replaytravel.errors import NoText
+from replaytravel.machine import Machine
+from replaytravel.programtexts import read_program
 
 SIGNS = ("+", "-", "*", "/", "#", "<", "=", "&", "^")
 LETTERS = "abcdefghijklmnop"
@@ -73,3 +75,39 @@ def refused_text(case, read, text, nth):
         case.assertIs(type(caught.exception), NoText)
         case.assertIs(type(caught.exception.nth), int)
         case.assertEqual(caught.exception.nth, nth)
+
+
+def program_of(*threads):
+    """A program, each thread told by its rows with semicolons between."""
+    rows = []
+    for thread in threads:
+        rows += ["thread"] + [row.strip() for row in thread.split(";") if row.strip()]
+    return read_program("\n".join(rows))
+
+
+def machine_of(*threads, inputs=None):
+    """A machine of a program told so; no inputs where none are told."""
+    return Machine(program_of(*threads), [[] for _ in threads] if inputs is None else inputs)
+
+
+def is_number_below(thing, many):
+    return type(thing) is int and 0 <= thing < many
+
+
+def picture(machine, threads):
+    """All that can be asked of a machine, thing by thing."""
+    told = {("cell", n): machine.cell(n) for n in range(64)}
+    told.update({("lock", n): machine.holder(n) for n in range(8)})
+    told.update({("line", n): machine.line(n) for n in range(8)})
+    for thread in range(threads):
+        told["row", thread] = machine.row(thread)
+        told["left", thread] = machine.left(thread)
+        told["told", thread] = machine.told(thread)
+        told["fallen", thread] = machine.word(thread) == "fallen"
+        told.update({(letter, thread): machine.worth(thread, letter) for letter in LETTERS})
+    return told
+
+
+def changed(before, behind):
+    """What of a picture is another behind."""
+    return {key: behind[key] for key in behind if behind[key] != before[key]}

@@ -49,6 +49,7 @@ def imports(tree):
 
 def local_names(tree):
     names = {node.id for node in ast.walk(tree) if isinstance(node, ast.Name) and isinstance(node.ctx, ast.Store)}
+    names |= {node.name for node in ast.walk(tree) if isinstance(node, ast.ExceptHandler) and node.name}
     return names | {node.arg for node in ast.walk(tree) if isinstance(node, ast.arg)}
 
 
