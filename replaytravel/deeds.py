@@ -39,9 +39,8 @@ def touch_of(row, held):
 def awaited(machine, thread):
     """What a thread waits for, (kind, number, holder), or None."""
     row = row_of_thread(machine, thread)
-    if row is None or machine.falls[thread]:
-        return None
-    touch = touch_of(row, machine.registers[thread])
+    # Whoever fell at a lock or a take has no place there that it could await.
+    touch = None if row is None else touch_of(row, machine.registers[thread])
     if touch is None:
         return None
     number = touch[1]

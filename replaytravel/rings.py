@@ -16,7 +16,7 @@ def ring_from(thread, holders):
 
 
 def rings_of(waits):
-    """The rings in a machine's waits, rising."""
+    """The rings in a machine's waits; both rise."""
     holders = {thread: holder for thread, kind, number, holder in waits if kind == "lock"}
-    rings = [ring_from(thread, holders) for thread in sorted(holders)]
+    rings = [ring_from(thread, holders) for thread in holders]
     return [ring for ring in rings if ring is not None]

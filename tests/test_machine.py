@@ -213,7 +213,7 @@ class EqualTest(unittest.TestCase):
 class CopiedTest(unittest.TestCase):
     def test_as_it_is(self):
         machine = machine_of(*SOME, inputs=[[], [1, 2]])
-        for thread in (0, 0, 0, 0, 1, 1):
+        for thread in (0, 0, 0, 0, 1, 1, 1, 0):
             machine.step(thread)
             twin = machine.copied()
             self.assertIs(type(twin), Machine)

@@ -190,8 +190,9 @@ class RefusedTest(unittest.TestCase):
 
 class OwnTest(unittest.TestCase):
     def told(self, run):
-        return (run.program(), run.inputs(), run.turns(), run.steps(), run.names(), len(run),
-                [run.machine(time).state() for time in range(len(run) + 1)], run.is_over())
+        # As a text, which nothing that is done to the lists can change.
+        return repr((run.program(), run.inputs(), run.turns(), run.steps(), run.names(), len(run),
+                     [run.machine(time).state() for time in range(len(run) + 1)], run.is_over()))
 
     def test_lists_told_and_changed(self):
         run = Run(program_of("input a; input b", "set a, 1"), [[1, 2], [3]], [0, 1])

@@ -208,7 +208,7 @@ class StateTest(unittest.TestCase):
                              ("lock a 1 +", 2), ("tell a 12 *", 1), ("send a 1 +, 1; send 2 a -, 1", 0),
                              ("tell 1; tell a", 1), ("send 1, a; send 1, 1 a -", 1),
                              ("if a, 4; set b, 5; go 5; set c, 5", 2), ("if a, 5; tell 1; tell 2; go 6; tell 12", 1),
-                             ("if a, 4; tell -1; go 5; tell 1", 1)):
+                             ("if a, 4; tell -1; go 5; tell 1", 1), ("if a, 3; check 1", 0)):
             threads = [f"load a, 0; {rows}; set a, 0", "store 0, 1; store 0, 0"]
             one, other = machine_of(*threads), machine_of(*threads)
             stepped(other, 1, 0, 1)
