@@ -2,6 +2,7 @@
 
 from replaytravel.deeds import follow
 from replaytravel.errors import NoStep, NoTime, NotReady
+from replaytravel.links import Standing
 from replaytravel.machine import Machine
 from replaytravel.wholes import is_below, is_whole
 
@@ -17,12 +18,11 @@ def steps_done(machine, turns):
     return steps
 
 
-def names_of(steps):
-    """The names of steps: the thread, and how many steps it did ahead."""
+def names_of(turns):
+    """The names of the steps of turns: the thread, and how many it had ahead."""
     many = {}
     names = []
-    for step in steps:
-        thread = step[0]
+    for thread in turns:
         names.append((thread, many.get(thread, 0)))
         many[thread] = many.get(thread, 0) + 1
     return names
@@ -40,8 +40,9 @@ class Run:
         self.last = Machine(program, inputs)
         self.order = list(turns)
         self.done = steps_done(self.last, self.order)
-        self.called = names_of(self.done)
+        self.called = names_of(self.order)
         self.places = {name: number for number, name in enumerate(self.called)}
+        self.stood = None
 
     def __eq__(self, other):
         return (
@@ -74,9 +75,13 @@ class Run:
         """The steps' names, by numbers."""
         return list(self.called)
 
+    def has(self, thing):
+        """Whether anything is the name of a step."""
+        return is_name(thing) and thing in self.places
+
     def number(self, name):
         """The number of the step of a name."""
-        if not is_name(name) or name not in self.places:
+        if not self.has(name):
             raise NoStep(name)
         return self.places[name]
 
@@ -92,3 +97,9 @@ class Run:
     def is_over(self):
         """Whether no thread is ready behind the last step."""
         return self.last.ready() == []
+
+    def standing(self):
+        """How the steps stand to one another; found when it is first asked for."""
+        if self.stood is None:
+            self.stood = Standing(self.done, len(self.last.threads))
+        return self.stood

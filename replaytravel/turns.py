@@ -9,18 +9,27 @@ from replaytravel.wholes import is_below, whole_of
 NONE = "-"
 
 
+def chosen(numbers, nth, those):
+    """Which of those the number numbered nth chooses; the first where it is missing."""
+    number = numbers[nth] if nth < len(numbers) else 0
+    return those[number % len(those)]
+
+
+def drawn_on(machine, turns, numbers, most):
+    """The turns done on a machine, and behind them those that numbers draw; it does these."""
+    drawn = list(turns)
+    ready = machine.ready()
+    while ready and len(drawn) < most:
+        thread = chosen(numbers, len(drawn), ready)
+        machine.step(thread)
+        drawn.append(thread)
+        ready = machine.ready()
+    return drawn
+
+
 def drawn_turns(program, inputs, numbers, *, most=MOST):
     """The turns that numbers draw among the ready threads."""
-    machine = Machine(program, inputs)
-    turns = []
-    ready = machine.ready()
-    while ready and len(turns) < most:
-        number = numbers[len(turns)] if len(turns) < len(numbers) else 0
-        thread = ready[number % len(ready)]
-        machine.step(thread)
-        turns.append(thread)
-        ready = machine.ready()
-    return turns
+    return drawn_on(Machine(program, inputs), [], numbers, most)
 
 
 def stretches(turns):

@@ -3,6 +3,7 @@
 from replaytravel.errors import NoText
 from replaytravel.machine import Machine
 from replaytravel.programtexts import read_program
+from replaytravel.runs import Run
 
 SIGNS = ("+", "-", "*", "/", "#", "<", "=", "&", "^")
 LETTERS = "abcdefghijklmnop"
@@ -111,3 +112,8 @@ def picture(machine, threads):
 def changed(before, behind):
     """What of a picture is another behind."""
     return {key: behind[key] for key in behind if behind[key] != before[key]}
+
+
+def run_of(*threads, turns, inputs=None):
+    """A run of a program told so, its turns as a text or a list of numbers."""
+    return Run(program_of(*threads), [[] for _ in threads] if inputs is None else inputs, [int(turn) for turn in turns])

@@ -217,8 +217,9 @@ class StatementsTest(unittest.TestCase):
         for name, tree in trees().items():
             for node in ast.walk(tree):
                 if isinstance(node, ast.ExceptHandler):
+                    caught = node.type.elts if isinstance(node.type, ast.Tuple) else [node.type]
                     with self.subTest(name=name, line=node.lineno):
-                        self.assertIn(node.type.id, own)
+                        self.assertEqual({part.id for part in caught} - own, set())
                 if isinstance(node, ast.Raise) and node.exc is not None:
                     with self.subTest(name=name, line=node.lineno):
                         self.assertIn(node.exc.func.id, own)
