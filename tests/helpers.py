@@ -78,6 +78,15 @@ def refused_text(case, read, text, nth):
         case.assertEqual(caught.exception.nth, nth)
 
 
+def refused_two(case, refusal, ask, one, other):
+    """Asserts that what is asked is refused with the very two things."""
+    with case.assertRaises(refusal) as caught:
+        ask()
+    case.assertIs(type(caught.exception), refusal)
+    case.assertIs(caught.exception.one, one)
+    case.assertIs(caught.exception.other, other)
+
+
 def program_of(*threads):
     """A program, each thread told by its rows with semicolons between."""
     rows = []

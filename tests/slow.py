@@ -123,3 +123,30 @@ def kind_of(run):
 def is_run_again(run, other):
     """Whether the other is the run again (14), of runs of one program and inputs."""
     return set(kind_of(other)) <= set(kind_of(run))
+
+
+def small_runs(seeds, most):
+    """Drawn runs with their seeds, each with all runs of its program that have no thread's steps more."""
+    for seed in range(seeds):
+        run = some_run(seed, most=most)
+        turns = all_turns(run.program(), run.inputs(), lengths_of(run))
+        if turns is not None:
+            yield seed, run, [Run(run.program(), run.inputs(), row) for row in turns]
+
+
+def gone_on_slowly(program, inputs, turns):
+    """The turns, gone on by the least ready thread (32)."""
+    machine, turns = Machine(program, inputs), list(turns)
+    for thread in turns:
+        machine.step(thread)
+    while machine.ready() and len(turns) < 400:
+        turns.append(min(machine.ready()))
+        machine.step(turns[-1])
+    return turns
+
+
+def turned_slowly(run, pair):
+    """The turns of the run turned about a pair, or a waited one (30)."""
+    a, aheads = run.names().index(pair[0]), aheads_of(run.steps())
+    left = [run.turns()[k] for k in range(len(run)) if k != a and a not in aheads[k]]
+    return gone_on_slowly(run.program(), run.inputs(), left + [pair[1][0]])

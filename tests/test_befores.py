@@ -6,8 +6,8 @@ from replaytravel.befores import broken, keeps, lacks
 from replaytravel.errors import NotAhead
 from replaytravel.pairs import pairs
 from replaytravel.runs import Run
-from tests.helpers import anything, drawn, program_of, run_of
-from tests.slow import aheads_of, all_turns, is_run_again, lengths_of, some_run
+from tests.helpers import anything, drawn, program_of, refused_two, run_of
+from tests.slow import aheads_of, is_run_again, lengths_of, small_runs, some_run
 
 A, B, C = (0, 0), (1, 0), (2, 0)
 # The loads of threads 1 and 2 come behind the store, the last store behind both.
@@ -113,11 +113,7 @@ class LacksTest(unittest.TestCase):
         self.assertIsNone(lacks(Run(program_of("go 0"), [[]], []), []))
 
     def refused(self, run, befores, one, other):
-        with self.assertRaises(NotAhead) as caught:
-            lacks(run, befores)
-        self.assertIs(type(caught.exception), NotAhead)
-        self.assertIs(caught.exception.one, one)
-        self.assertIs(caught.exception.other, other)
+        refused_two(self, NotAhead, lambda: lacks(run, befores), one, other)
 
     def test_no_before(self):
         lost = (3, 7)
@@ -156,19 +152,10 @@ class LacksTest(unittest.TestCase):
         self.assertEqual(pairs(RUN), PAIRS)
 
 
-def small_runs():
-    """Drawn runs, each with all turns that can be done with no thread having more."""
-    for seed in range(150):
-        run = some_run(seed, most=8)
-        turns = all_turns(run.program(), run.inputs(), lengths_of(run))
-        if turns is not None:
-            yield seed, run, [Run(run.program(), run.inputs(), row) for row in turns]
-
-
 class KeptRunsTest(unittest.TestCase):
     def test_lists_that_lack_none_are_the_run_again(self):
         seen = set()
-        for seed, run, others in small_runs():
+        for seed, run, others in small_runs(150, 8):
             names, aheads = run.names(), aheads_of(run.steps())
             again = {tuple(other.turns()): is_run_again(run, other) for other in others}
             all_befores = [(names[k], names[number]) for number in range(len(run)) for k in sorted(aheads[number])]
@@ -190,7 +177,7 @@ class KeptRunsTest(unittest.TestCase):
 
     def test_pairs_are_kept_just_by_the_run_again(self):
         seen = set()
-        for seed, run, others in small_runs():
+        for seed, run, others in small_runs(150, 8):
             for other in others:
                 kept = keeps(pairs(run), other.turns())
                 seen.add(kept)

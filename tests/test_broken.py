@@ -6,7 +6,7 @@ from replaytravel.befores import breaks, broken, keeps
 from replaytravel.errors import NoPair, NoThread, NotReady
 from replaytravel.pairs import pairs
 from replaytravel.runs import Run
-from tests.helpers import anything, program_of, run_of
+from tests.helpers import anything, program_of, refused_two, run_of
 from tests.slow import aheads_of, some_run
 
 
@@ -50,11 +50,7 @@ class BrokenTest(unittest.TestCase):
         self.assertTrue(many > 50)
 
     def refused(self, run, thing, one, other):
-        with self.assertRaises(NoPair) as caught:
-            broken(run, thing)
-        self.assertIs(type(caught.exception), NoPair)
-        self.assertIs(caught.exception.one, one)
-        self.assertIs(caught.exception.other, other)
+        refused_two(self, NoPair, lambda: broken(run, thing), one, other)
 
     def test_two_names_that_are_no_pair(self):
         run = run_of("store 1, 1; tell 1", "load a, 1; load b, 1", turns="0110")
@@ -165,6 +161,11 @@ class BreaksTest(unittest.TestCase):
     def test_both_done_the_other_way_about(self):
         run = run_of("store 1, 1", "load a, 1", turns="01")
         self.assertIs(breaks(run, ((0, 0), (1, 0)), [1, 0]), False)
+
+    def test_no_pair(self):
+        run = run_of("store 1, 1", "load a, 1; load b, 1", turns="011")
+        for one, other in (((1, 0), (0, 0)), ((0, 0), (1, 1)), ((False, 0), (1, 0))):
+            refused_two(self, NoPair, lambda: breaks(run, (one, other), [1]), one, other)
 
     def test_four_hundred_turns(self):
         run = run_of("store 1, 1", "load a, 1; go 0", turns="0" + "1" * 399)

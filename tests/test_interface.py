@@ -12,6 +12,13 @@ LISTED = {
                 "breaks": "(run, pair, turns)"},
     "replay": {"replayed": "(program, inputs, pairs, lengths, numbers=())"},
     "played": {"otherwise": "(run, program, inputs)"},
+    "alike": {"is_again": "(run, other)", "are_alike": "(one, other)", "least_turns": "(run)"},
+    "allruns": {"all_runs": "(program, inputs, *, most=2000)", "runs_paper": "(program, inputs, *, most=2000)",
+                "is_runs_paper": "(program, inputs, paper)", "outcome": "(run)",
+                "outcomes": "(program, inputs, *, most=2000)"},
+    "turned": {"waited": "(run)", "turned": "(run, pair)", "reached": "(run, *, most=2000)"},
+    "waited": {"waited": "(run)"},
+    "races": {"races": "(run)", "weighty": "(run)"},
 }
 
 
