@@ -10,6 +10,12 @@ NEXT = {
     "take": ("take",),
 }
 
+# The words that write the cell that they touch.
+WRITES = ("store", "swap")
+
+# Of each word, whose put it reads or takes at the place that it touches.
+READS = {"load": "write", "swap": "write", "take": "sent"}
+
 # Of each word, what else there has to be done ahead of it.
 NEEDED = {"lock": "free", "take": "sent"}
 
@@ -42,6 +48,10 @@ class Links:
         needed = self.found(NEEDED.get(word, ""), touch)[:1]
         return self.last_of(thread) + self.next_of(word, touch) + needed
 
+    def read_of(self, word, touch):
+        """The number of the step whose put a step that comes now reads or takes, in a list."""
+        return self.found(READS.get(word, ""), touch)[:1]
+
     def note(self, step):
         """Counts a step in: it comes now."""
         thread, at, word, touch, got, put = step
@@ -50,7 +60,7 @@ class Links:
         self.latest[("thread", thread)] = [number]
         if word == "load":
             self.latest[("load", touch)] = self.found("load", touch) + [number]
-        elif word == "store" or word == "swap":
+        elif word in WRITES:
             self.latest[("write", touch)] = [number]
             self.latest[("load", touch)] = []
         elif touch is not None:
@@ -84,6 +94,7 @@ class Standing:
         self.links = Links()
         self.nexts = []
         self.straights = []
+        self.reads = []
         self.clocks = []
         for step in steps:
             self.place(step, threads)
@@ -94,5 +105,6 @@ class Standing:
         straight = self.links.straight_of(thread, word, touch)
         self.nexts.append(self.links.next_of(word, touch))
         self.straights.append(straight)
+        self.reads.append(self.links.read_of(word, touch))
         self.clocks.append(clock_behind([self.clocks[number] for number in straight], thread, threads))
         self.links.note(step)

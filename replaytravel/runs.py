@@ -85,10 +85,19 @@ class Run:
             raise NoStep(name)
         return self.places[name]
 
-    def machine(self, time):
-        """The machine as it is at a time."""
+    def check_number(self, number):
+        """Refuses what is no number of a step."""
+        if not is_below(number, len(self.done)):
+            raise NoStep(number)
+
+    def check_time(self, time):
+        """Refuses what is no time."""
         if not is_below(time, len(self.done) + 1):
             raise NoTime(time)
+
+    def machine(self, time):
+        """The machine as it is at a time."""
+        self.check_time(time)
         machine = Machine(self.last.threads, self.last.given)
         for step in self.done[:time]:
             follow(machine, step)

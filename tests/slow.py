@@ -150,3 +150,34 @@ def turned_slowly(run, pair):
     a, aheads = run.names().index(pair[0]), aheads_of(run.steps())
     left = [run.turns()[k] for k in range(len(run)) if k != a and a not in aheads[k]]
     return gone_on_slowly(run.program(), run.inputs(), left + [pair[1][0]])
+
+
+# Each thread goes round: what there is of words comes again and again.
+LONG = (
+    "input a; load b, 0; store 0, b a +; lock 0; swap c, 1, b; free 0; send 0, c; tell c; go 1",
+    "lock 0; load a, 1; free 0; take b, 0; store a 7 & 2 +, b; set c, c 1 +; if c 30 <, 0; check 0",
+    "swap a, 0, a 1 +; lock 1; lock 0; free 1; store 1, a; free 0; check c 40 <; set c, c 1 +; go 0",
+)
+
+
+def long_run(seed, most=300):
+    """A run of some three hundred turns."""
+    program, inputs = program_of(*LONG), [[5], [], []]
+    return Run(program, inputs, drawn_turns(program, inputs, drawn(seed, most), most=most))
+
+
+def state_behind(program, inputs, turns):
+    """The state behind turns."""
+    machine = Machine(program, inputs)
+    for thread in turns:
+        machine.step(thread)
+    return machine.state()
+
+
+def goals_of(program):
+    """Goals of each kind for a drawn program, some that are come to and some that aren't."""
+    goals = [("stuck",)]
+    for thread, rows in enumerate(program):
+        goals += [("falls", thread, row) for row in range(len(rows))]
+        goals += [("told", thread, worth) for worth in (0, 1, 2, 3)]
+    return goals + [("cell", cell, worth) for cell in (0, 1) for worth in (0, 1, 2)]
