@@ -5,6 +5,7 @@ from replaytravel.wholes import is_below
 
 MOST_THREADS = 4
 MOST_ROWS = 40
+MOST_INPUTS = 60
 
 # The things behind each word: r a letter, e an expression, k a row to go to.
 SHAPES = {

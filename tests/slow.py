@@ -181,3 +181,16 @@ def goals_of(program):
         goals += [("falls", thread, row) for row in range(len(rows))]
         goals += [("told", thread, worth) for worth in (0, 1, 2, 3)]
     return goals + [("cell", cell, worth) for cell in (0, 1) for worth in (0, 1, 2)]
+
+
+# Rows by which worths go to and fro between letters, cells and lines.
+FLOWS = ("load a, 0", "store 0, a b +", "swap b, 1, a 1 +", "send 0, a b -; take c, 0", "set a, c 2 *", "load b, a 3 &",
+         "store b 1 &, c", "input c", "swap a, 0, a", "send 1, c; take a, 1", "tell a c +", "set c, a b ^ 1 +", "load c, 1")
+
+
+def flow_run(seed, most=40):
+    """A run in which worths come from afar."""
+    numbers = drawn(seed * 31 + 7, 60)
+    threads = ["; ".join([FLOWS[number % len(FLOWS)] for number in numbers[at:at + 9]]) for at in (5, 17, 29)]
+    program, inputs = program_of(*threads), [[numbers[0] % 90], [7, -4], [numbers[1] % 50]]
+    return Run(program, inputs, drawn_turns(program, inputs, numbers, most=most))

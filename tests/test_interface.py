@@ -29,10 +29,13 @@ LISTED = {
     "kept": {"heft": "(step)", "size_at": "(run, time)", "kept_times": "(run, bound)"},
     "keptlooks": {"do_keep": "(run, bound, times)", "cost_of": "(run, times)",
                   "bars_cheaper": "(run, bound, cost, paper)"},
+    "recordingtexts": {"show_recording": "(recording)", "read_recording": "(text)"},
     "asking": {"last_write": "(recording, time, cell)", "next_write": "(recording, time, cell)",
                "changes": "(recording, cell)", "first_when": "(recording, cell, worth, *, since=0)",
                "last_when": "(recording, cell, worth, *, until=None)", "readers": "(recording, number)",
                "held_by": "(recording, time, lock)", "waits_at": "(recording, time)", "rings_at": "(recording, time)"},
+    "why": {"sources": "(run, number, part)", "why": "(run, time, cell)", "why_part": "(run, number, part)"},
+    "alone": {"done_alone": "(run, rows)"},
     "goals": {"comes_to": "(machine, goal)"},
     "fewest": {"fewest": "(program, inputs, goal, *, most=2000)"},
     "fewlooks": {"bars_fewer": "(program, inputs, goal, number, paper)"},
@@ -48,6 +51,10 @@ CLASSES = {
         "program": "()", "inputs": "()", "turns": "()", "steps": "()", "names": "()", "number": "(name)",
         "machine": "(time)", "is_over": "()"}),
     ("recordings", "Recording"): ("(run, *, bound=60)", {"run": "()", "bound": "()", "pairs": "()", "kept": "()"}),
+    ("traveller", "Traveller"): ("(recording, *, seen=None)", {
+        "at": "()", "now": "()", "go": "(time)", "on": "()", "back": "()", "to_next": "(thread, row)",
+        "to_last": "(thread, row)", "look": "(time, asked)"}),
+    ("desk", "Desk"): ("()", {"say": "(row)", "log": "()"}),
 }
 
 
