@@ -46,16 +46,12 @@ def fewest(program, inputs, goal, *, most=MOST_STATES):
     first = (states.first, None)
     numbers = {first: 0}
     froms = {first: None}
-    done = {}
     # Those with one switch more wait until none with as many as now is left.
     waiting, later = [first], []
     while waiting or later:
         if not waiting:
             waiting, later = later, waiting
         place = waiting.pop()
-        if place in done:
-            continue
-        done[place] = True
         if comes_to(states.machines[place[0]], goal):
             return (numbers[place], turns_to(place, froms), paper_of(numbers))
         for thread, state in states.behind(place[0]):

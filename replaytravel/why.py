@@ -70,7 +70,7 @@ def rows_behind(run, parts):
         if part not in found:
             found[part] = known[part]
             waiting.extend(known[part])
-    return [(number, part, list(found[(number, part)])) for number, part in sorted(list(found))]
+    return [(number, part, found[(number, part)]) for number, part in sorted(list(found))]
 
 
 def why_part(run, number, part):

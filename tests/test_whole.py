@@ -81,12 +81,14 @@ class WholeTest(unittest.TestCase):
     def test_what_is_asked_is_what_going_through_all_steps_tells(self):
         for recording in some_recordings():
             read = read_recording(show_recording(recording))
-            run = read.run()
+            run, traveller = read.run(), Traveller(read)
             machine, held, wrote, locked = run.machine(0), [0] * 64, [None] * 64, {}
             for time, step in enumerate(run.steps() + [None]):
                 for cell in range(0, 8):
                     self.assertEqual(machine.cell(cell), held[cell])
                 if time % 9 == 0 or step is None:
+                    # Wherever it is travelled, the same is told.
+                    traveller.go(len(run) - time)
                     for cell in (0, 1, 5):
                         self.assertEqual(last_write(read, time, cell), wrote[cell])
                     self.assertEqual(waits_at(read, time), machine.waits())
